@@ -1,0 +1,1 @@
+"""Shardmove: copies of shards that are moved between machines step by step."""

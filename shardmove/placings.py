@@ -78,6 +78,12 @@ def check_placing(cluster, value):
         raise BadPlacing("not a placing of the cluster")
 
 
+def check_both(cluster, one, other):
+    """Refuse what is no cluster, and then what are not two placings of it."""
+    check_placing(cluster, one)
+    check_placing(cluster, other)
+
+
 def held(cluster, placing):
     """Return what each machine holds together, for copies that may be too many."""
     sums = [0] * len(cluster.rooms)
@@ -101,35 +107,28 @@ def may_lie(cluster, machines):
 
 def moves(cluster, placing):
     """Return pairs of a step that is possible and the placing after it, in the order of the steps."""
-    copies = [("copy", shard, source, target) for shard, machines in enumerate(placing)
-              for source in machines for target in range(len(cluster.rooms))]
-    drops = [("drop", shard, machine) for shard, machines in enumerate(placing) for machine in machines]
+    sums = held(cluster, placing)
     found = []
-    for step in copies + drops:
-        result = placing_after(cluster, placing, step)
-        if result is not None:
-            found.append((step, result))
+    for shard, machines in enumerate(placing):
+        grown = [(target, _copied(cluster, placing, sums, shard, target)) for target in range(len(cluster.rooms))]
+        found += [(("copy", shard, source, target), result) for source in machines
+                  for target, result in grown if result is not None]
+    for shard, machines in enumerate(placing):
+        shrunk = [(machine, _dropped(cluster, placing, shard, machine)) for machine in machines]
+        found += [(("drop", shard, machine), result) for machine, result in shrunk if result is not None]
     return found
 
 
 def placing_after(cluster, placing, step):
     """Return the placing after a step, None if it is not a step that is possible."""
-    if not _has_form(cluster, step):
+    if not has_form(cluster, step):
         return None
     shard, machine = step[1], step[-1]
-    here = placing[shard]
     if step[0] == "drop":
-        if machine not in here:
-            return None
-        there = tuple([other for other in here if other != machine])
-    else:
-        if step[2] not in here or machine in here:
-            return None
-        there = tuple(sorted([*here, machine]))
-    result = placing[:shard] + (there,) + placing[shard + 1:]
-    if may_lie(cluster, there) and fits(cluster, result):
-        return result
-    return None
+        return _dropped(cluster, placing, shard, machine)
+    if step[2] not in placing[shard]:
+        return None
+    return _copied(cluster, placing, held(cluster, placing), shard, machine)
 
 
 def step_price(cluster, step):
@@ -142,7 +141,7 @@ def step_price(cluster, step):
     return size * cluster.far
 
 
-def _has_form(cluster, value):
+def has_form(cluster, value):
     """Say whether a value is written as a step of the shards and machines of a cluster."""
     if not isinstance(value, tuple) or not 3 <= len(value) <= 4:
         return False
@@ -154,12 +153,40 @@ def _has_form(cluster, value):
     return all([is_number(machine, 0, len(cluster.rooms) - 1) for machine in value[2:]])
 
 
+def subsets(count):
+    """Return all ascending tuples of indices below a count, in the order of tuples."""
+    rows = [()]
+    for index in range(count):
+        rows = rows + [row + (index,) for row in rows]
+    return sorted(rows)
+
+
+def _copied(cluster, placing, sums, shard, target):
+    """Return the placing with one more copy, None if it is none; the sums are what the machines hold."""
+    machines = placing[shard]
+    if target in machines or sums[target] + cluster.sizes[shard] > cluster.rooms[target]:
+        return None
+    return _replaced(cluster, placing, shard, tuple(sorted([*machines, target])))
+
+
+def _dropped(cluster, placing, shard, machine):
+    """Return the placing without a copy, None if there is no such copy or no placing is left."""
+    machines = placing[shard]
+    if machine not in machines:
+        return None
+    return _replaced(cluster, placing, shard, tuple([other for other in machines if other != machine]))
+
+
+def _replaced(cluster, placing, shard, machines):
+    """Return the placing with other machines for a shard, None if it may not have its copies on these."""
+    if not may_lie(cluster, machines):
+        return None
+    return placing[:shard] + (machines,) + placing[shard + 1:]
+
+
 def _choices(cluster):
     """Return the ascending tuples of machines that may have the copies of one shard, in order."""
-    rows = [()]
-    for machine in range(len(cluster.rooms)):
-        rows = rows + [row + (machine,) for row in rows]
-    return [row for row in sorted(rows) if may_lie(cluster, row)]
+    return [row for row in subsets(len(cluster.rooms)) if may_lie(cluster, row)]
 
 
 def _collect(cluster, choices, start, free, found):

@@ -1,6 +1,5 @@
 """Regions: the placings of a cluster, divided by whether there is a way between them."""
 
-from shardmove.clusters import check_cluster
 from shardmove.placings import check_placing, placings
 from shardmove.searches import region_of
 
@@ -34,7 +33,6 @@ def region(cluster, placing):
 
 def _divided(cluster):
     """Return the lists of the placings of all regions, in order."""
-    check_cluster(cluster)
     groups = []
     seen = {}
     for placing in placings(cluster):

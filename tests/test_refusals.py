@@ -1,4 +1,4 @@
-"""What [1] says of wrong arguments of plans and movers: which error is raised, also if several apply."""
+"""What [1] says of wrong arguments of functions with clusters and placings: which error is raised, and when."""
 
 import itertools
 import unittest
@@ -7,12 +7,17 @@ from shardmove.clusters import Cluster
 from shardmove.errors import BadCluster, BadMovers, BadPlacing, TooLarge
 from shardmove.movers import Movers, cost_with, least_movers, movers
 from shardmove.plans import Knot, Plan, can_move, least_cost, musts, plan
+from shardmove.regions import Regions, region, regions
+from shardmove.rounds import Jam, Schedule, after_round, fewest_rounds, round_between, schedule
 from tests.helpers import WIDEST, Case, LooksLikeACluster, make, odd_values, spoiled
 
 CLUSTER = Cluster((3, 3, 3), (2, 1), zones=(0, 1, 1), far=2)
 PLACING = ((0,), (0, 1))
 SEARCHES = [plan, least_cost, can_move, musts, movers, least_movers]
 SHOWS = [Plan((), {}).shows, Knot([]).shows, Movers({}, {}).shows]
+# These take a bound of traffic, too.
+ROUNDS = [round_between, schedule, fewest_rounds, Schedule((), {}).shows, Jam([]).shows]
+TURN = ((("copy", 0, 0, 1),), ())
 # Placings far from each other in the widest cluster, for which everything is too large.
 FAR = ((0,),) * 4, ((3,),) * 4
 
@@ -24,6 +29,12 @@ class RefusalsTest(Case):
             for function in SEARCHES + SHOWS:
                 self.assertIsNone(self.refused(BadCluster, function, value, PLACING, PLACING).part)
             self.assertIsNone(self.refused(BadCluster, cost_with, value, PLACING, PLACING, (0,)).part)
+            for function in ROUNDS:
+                self.assertIsNone(self.refused(BadCluster, function, value, PLACING, PLACING, 2).part)
+            self.assertIsNone(self.refused(BadCluster, after_round, value, PLACING, 2, TURN).part)
+            for function in (regions, Regions([]).shows):
+                self.assertIsNone(self.refused(BadCluster, function, value).part)
+            self.assertIsNone(self.refused(BadCluster, region, value, PLACING).part)
 
     def test_what_is_no_placing(self):
         wrong = spoiled(PLACING) + [((0,), (1, 0)), ((0,),), ((0,), (0,), (0,)), ((3,), (0,)), [(0,), (0, 1)],
@@ -34,6 +45,11 @@ class RefusalsTest(Case):
                 self.refused(BadPlacing, function, CLUSTER, PLACING, value)
             self.refused(BadPlacing, cost_with, CLUSTER, value, PLACING, (0,))
             self.refused(BadPlacing, cost_with, CLUSTER, PLACING, value, (0,))
+            for function in ROUNDS:
+                self.refused(BadPlacing, function, CLUSTER, value, PLACING, 2)
+                self.refused(BadPlacing, function, CLUSTER, PLACING, value, 2)
+            self.refused(BadPlacing, after_round, CLUSTER, value, 2, TURN)
+            self.refused(BadPlacing, region, CLUSTER, value)
 
     def test_what_are_no_movers(self):
         for value in odd_values():
@@ -68,6 +84,20 @@ class RefusalsTest(Case):
                         Cluster((3, 3, 3), (3, 3)), Cluster((3, 3, 3), (1,)), Cluster((3, 3, 3), (2, 1), apart=True)):
             for function in SEARCHES + SHOWS:
                 self.refused(BadPlacing, function, cluster, PLACING, PLACING)
+
+    def test_what_are_no_placings_shows_nothing(self):
+        # Such attributes are not asked about; but it would be wrong to say that they show something.
+        tight, one, other = Cluster((2, 2), (2, 1)), ((0,), (1,)), ((1,), (0,))
+        for value in (((0,), (0,)), ((2,), (1,)), ((0,), (1,), (0,)), ((1, 0), (1,)), ((0,),), ((), (0,)), 5, None, "0 1"):
+            self.assertIs(Knot([one, value]).shows(tight, one, other), False)
+            self.assertIs(Movers({}, {(0, 1): [value, one]}).shows(tight, one, other), False)
+            self.assertIs(Jam([one, value]).shows(tight, one, other, 2), False)
+            for floor in (-1, 0, 1):
+                self.assertIs(Plan((), {value: floor}).shows(tight, one, one), False)
+                self.assertIs(Schedule((), {value: floor}).shows(tight, one, one, 2), False)
+        self.assertIs(Knot([one]).shows(tight, one, other), True)
+        self.assertIs(Movers({}, {(0, 1): [one]}).shows(tight, one, other), True)
+        self.assertIs(Jam([one]).shows(tight, one, other, 2), True)
 
     def test_nothing_has_changed(self):
         cluster, other = make(((3, 2, 2), (2, 1), (0, 0, 1), 3, 1, False)), ((2,), (0,))

@@ -69,7 +69,7 @@ def walk(cluster, placing, way):
 def cost(cluster, placing, way):
     """Return what a way costs."""
     walk(cluster, placing, way)
-    return sum([step_price(cluster, step) for step in way])
+    return way_price(cluster, way)
 
 
 def check_placing(cluster, value):
@@ -139,6 +139,11 @@ def step_price(cluster, step):
     if cluster.zones[step[2]] == cluster.zones[step[3]]:
         return size
     return size * cluster.far
+
+
+def way_price(cluster, way):
+    """Return the sum of the prices of steps, each of which must be possible somewhere."""
+    return sum([step_price(cluster, step) for step in way])
 
 
 def has_form(cluster, value):

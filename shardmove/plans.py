@@ -1,7 +1,7 @@
 """Plans: cheapest ways with floors, lists of placings that no way leaves, and steps that must be done."""
 
 from shardmove.errors import NoWay
-from shardmove.placings import check_both, is_placing, moves, step_price
+from shardmove.placings import check_both, is_placing, moves, step_price, way_price
 from shardmove.searches import all_shards, cheapest, end_of, is_closed, way_to
 
 
@@ -20,7 +20,7 @@ class Plan:
         check_both(cluster, one, other)
         if end_of(cluster, one, self.way) != other:
             return False
-        total = sum([step_price(cluster, step) for step in self.way])
+        total = way_price(cluster, self.way)
         if total > 0 and self.floors.get(one, 0) < total:
             return False
         return all([_holds(cluster, self.floors, placing, other) for placing in self.floors])

@@ -38,10 +38,13 @@ def edges(spec, placing):
     return tuple(edge for edge in found if edge[1] is not None)
 
 
-def least_costs(spec, one, some=None, without=None):
-    """Return what it costs to come to placings, by steps of some shards only, or without one of all steps."""
+def least_costs(spec, one, some=None, without=None, last=None):
+    """Return what it costs to come to placings, by steps of some shards only, or without one of all steps.
+
+    If there is a last one, those that cost more are left out.
+    """
     costs, waiting, spent = {}, {0: [one]}, 0
-    while waiting:
+    while waiting and last not in costs:
         for placing in waiting.pop(spent, []):
             if placing not in costs:
                 costs[placing] = spent
@@ -50,6 +53,14 @@ def least_costs(spec, one, some=None, without=None):
                         waiting.setdefault(spent + price, []).append(result)
         spent += 1
     return costs
+
+
+def least(spec, one, other):
+    """Return what the cheapest way costs, None if there is none, or "TooLarge" if this error is due."""
+    costs = least_costs(spec, one, last=other)
+    total = costs.get(other)
+    cheaper = [cost for cost in costs.values() if total is None or cost < total]
+    return "TooLarge" if len(cheaper) > 2000 else total
 
 
 def pairs(spec, most):

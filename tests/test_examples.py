@@ -97,6 +97,35 @@ EXAMPLES = {
 >>> [found, after_round(cluster, one, 2, turn), round_between(cluster, one, other, 3), schedule(cluster, one, other, 2).shows(cluster, one, other, 2)]
 [[None, 2, 2, 2], ((0,), (2,), (0, 1)), None, True]
 """,
+    "shardmove/spares.py": r"""
+>>> from shardmove.clusters import Cluster
+>>> from shardmove.plans import Knot
+>>> from shardmove.spares import Spare, least_spare, spare
+>>> cluster = Cluster((2, 2), (2, 1), far=3)
+>>> one, other = ((0,), (1,)), ((1,), (0,))
+>>> found = spare(cluster, one, other, [(1, 0, 4), (1, 1, 1), (6, 0, 3)])
+>>> [found.index, found.total, isinstance(found.answers[0], Knot), found.shows(cluster, one, other, [(1, 0, 4), (1, 1, 1), (6, 0, 3)])]
+[3, 10, True, True]
+""",
+    "shardmove/stops.py": r"""
+>>> from shardmove.clusters import Cluster
+>>> from shardmove.stops import back, detours, forward, left, turning
+>>> cluster = Cluster((3, 3), (2, 1))
+>>> placing, way = ((0,), (1,)), [('copy', 1, 1, 0), ('copy', 0, 0, 1), ('drop', 1, 0), ('drop', 0, 0)]
+>>> [len(left(cluster, placing, way)), list(forward(cluster, placing, way).values()), list(back(cluster, placing, way).values()), turning(cluster, placing, way), detours(cluster, placing, way)]
+[5, [3, 4, 2, 1, 0], [0, 1, 2, 1, 3], 4, [0]]
+""",
+    "shardmove/texts.py": r"""
+>>> from shardmove.clusters import Cluster
+>>> from shardmove.sessions import Session
+>>> from shardmove.texts import cluster_text, placing_text, rank, read_placing, read_way, unrank
+>>> cluster = Cluster((3, 2), (2, 1), zones=(0, 1), far=2)
+>>> session = Session(cluster, ((0,), (0,)), ((1,), (0,)))
+>>> found = [session.rest(), session.step(('copy', 0, 0, 1)), session.tried([('drop', 0, 0), ('copy', 1, 0, 1)][:1]), session.spent(), session.journal]
+>>> texts = [cluster_text(cluster), placing_text(cluster, session.placing), read_placing(cluster, '1 0'), read_way(cluster, ((0,), (0,)), 'copy 0 0 1\ndrop 0 0\n')]
+>>> [found, texts, rank(cluster, ((1,), (0,))), unrank(cluster, 0)]
+[[5, 1, [0], 4, [(('copy', 0, 0, 1), 1)]], ['rooms 3 2\nsizes 2 1\nzones 0 1\nfar 2\nalive 1\napart no\n', '0,1 0', ((1,), (0,)), (('copy', 0, 0, 1), ('drop', 0, 0))], 4, ((0,), (0,))]
+""",
 }
 
 
